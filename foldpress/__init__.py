@@ -1,0 +1,1 @@
+"""Foldpress: a house of printed sheets."""
