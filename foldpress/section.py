@@ -43,7 +43,7 @@ def is_whole_pair(even, odd):
 def both_sides(scheme, pages):
     """The rows of front and back, as they are seen, with one page for each place."""
     rows, columns, _ = scheme.told()
-    sides = {side: [[None] * columns for row in range(rows)] for side in ("front", "back")}
+    sides = {side: [[None] * columns for line in range(rows)] for side in ("front", "back")}
     for place, page in zip(page_places(scheme), pages):
         row, column = spot_of(place, columns)
         sides[place[2]][row][column] = (page, page != 0 and place[3])

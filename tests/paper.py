@@ -2,11 +2,15 @@
 
 import random
 
+from foldpress.errors import BadRow
+
 EDGES = ("left", "right", "top", "bottom")
 WAYS = ("over", "under")
 # No whole numbers; True stands here, for it is no 1.
 NO_NUMBERS = (None, True, False, "", "1", "2", [], [1], (), (1,), {}, set(), b"1", object(), len)
 NO_TEXTS = (None, True, False, 0, 1, [], ["sheet 1 1"], ("sheet 1 1",), {}, set(), b"sheet 1 1", b".", object(), len)
+NO_SIZES = ((0, 1), (1, 0), (0, 0), (-1, 1), (1, -1), (-2, -3), (9, 1), (1, 9), (8, 5), (5, 8), (6, 6), (8, 8), (7, 5),
+            (1, 32), (32, 1), (10 ** 40, 1), (1, 10 ** 40))
 # Sizes with few enough schemes that a test can go through all of them.
 SMALL_SIZES = ((1, 1), (1, 2), (2, 1), (1, 3), (3, 1), (1, 4), (4, 1), (2, 2), (2, 3), (3, 2))
 GREAT_SIZES = ((8, 4), (4, 8), (6, 5), (5, 6), (8, 1), (1, 8), (7, 4), (3, 7), (2, 4), (4, 4))
@@ -107,6 +111,26 @@ def many_schemes():
     """Sizes and folds: all of the small sizes, some of greater ones."""
     found = [(rows, columns, folds) for rows, columns in SMALL_SIZES for folds in all_folds(rows, columns)]
     return found + [(rows, columns, folds) for rows, columns in GREAT_SIZES for folds in some_folds(rows, columns, 12)]
+
+
+def with_row(rows, at, row):
+    """The text of the rows with another one at that number."""
+    return "\n".join(rows[:at - 1] + [row] + rows[at:])
+
+
+def with_word(rows, at, number, word):
+    """The text of the rows with another word in one of them."""
+    words = rows[at - 1].split(" ")
+    words[number - 1] = word
+    return with_row(rows, at, " ".join(words))
+
+
+def row_refused(case, read, text):
+    """The row and the word of the refusal of a text; the test fails where there is none."""
+    with case.assertRaises(BadRow, msg=repr(text)) as caught:
+        read(text)
+    case.assertEqual((type(caught.exception.row), type(caught.exception.word)), (int, int))
+    return (caught.exception.row, caught.exception.word)
 
 
 def change_deeply(thing):

@@ -13,6 +13,11 @@ FUNCTIONS = {
     "section": {"section_leaves": ["scheme"], "page_places": ["scheme"], "whole_spreads": ["scheme"],
                 "side_rows": ["scheme", "side"]},
     "sheet": {"tumbled_back": ["sheet"]},
+    "sheettext": {"sheet_text": ["sheet"], "read_sheet": ["text"]},
+    "imposing": {"imposed": ["scheme", "pages"], "section_pages": ["scheme", "sheet"]},
+    "allschemes": {"count_schemes": ["rows", "columns"], "all_schemes": ["rows", "columns"]},
+    "readback": {"schemes_for": ["sheet"], "hindering": ["sheet"], "scheme_kinds": ["rows", "columns"],
+                 "same_sheet": ["one", "other"]},
 }
 METHODS = {
     "scheme": {"Scheme": {"__init__": ["rows", "columns", "folds"], "told": []}},

@@ -2,10 +2,10 @@
 
 import unittest
 
-from foldpress.errors import BadRow, BadScheme
+from foldpress.errors import BadScheme
 from foldpress.scheme import Scheme
 from foldpress.schemetext import read_scheme, scheme_rows, scheme_text
-from paper import NO_TEXTS, change_deeply, many_schemes
+from paper import NO_TEXTS, change_deeply, many_schemes, row_refused, with_row, with_word
 
 FOLDS = [("left", 2, "over"), ("top", 1, "under"), ("right", 1, "over"), ("bottom", 1, "under"), ("left", 1, "over")]
 ROWS = ["sheet 3 5", "fold left 2 over", "fold top 1 under", "fold right 1 over", "fold bottom 1 under",
@@ -18,12 +18,9 @@ NO_EDGES = ("Left", "LEFT", "lef", "leftt", "up", "down", "over", "under", "fold
 NO_WAYS = ("Over", "OVER", "ove", "overr", "behind", "within", "left", "top", "1", "0", "overunder", "-")
 
 
-def row_refused(case, text):
-    """The row and the word of the refusal; the test fails where there is none."""
-    with case.assertRaises(BadRow, msg=repr(text)) as caught:
-        read_scheme(text)
-    case.assertEqual((type(caught.exception.row), type(caught.exception.word)), (int, int))
-    return (caught.exception.row, caught.exception.word)
+def refused(case, text):
+    """The row and the word of the refusal of a text."""
+    return row_refused(case, read_scheme, text)
 
 
 def scheme_refused(case, text):
@@ -31,18 +28,6 @@ def scheme_refused(case, text):
     with case.assertRaises(BadScheme, msg=repr(text)) as caught:
         read_scheme(text)
     return caught.exception.at
-
-
-def with_row(at, row):
-    """The good text with another row at that number."""
-    return "\n".join(ROWS[:at - 1] + [row] + ROWS[at:])
-
-
-def with_word(at, number, word):
-    """The good text with another word in one of its rows."""
-    words = ROWS[at - 1].split(" ")
-    words[number - 1] = word
-    return with_row(at, " ".join(words))
 
 
 class TestWritten(unittest.TestCase):
@@ -100,52 +85,52 @@ class TestReadBack(unittest.TestCase):
 class TestRefusedWords(unittest.TestCase):
     def test_no_text(self):
         for thing in NO_TEXTS:
-            self.assertEqual(row_refused(self, thing), (1, 0), repr(thing))
-        self.assertEqual(row_refused(self, ROWS), (1, 0))
-        self.assertEqual(row_refused(self, TEXT.encode()), (1, 0))
+            self.assertEqual(refused(self, thing), (1, 0), repr(thing))
+        self.assertEqual(refused(self, ROWS), (1, 0))
+        self.assertEqual(refused(self, TEXT.encode()), (1, 0))
 
     def test_no_first_word(self):
         for word in ("fold", "Sheet", "shee", "sheets", "scheme", "1", ".", "back"):
-            self.assertEqual(row_refused(self, with_word(1, 1, word)), (1, 1), word)
+            self.assertEqual(refused(self, with_word(ROWS, 1, 1, word)), (1, 1), word)
         for at in range(2, 7):
             for word in ("sheet", "Fold", "fol", "folds", "left", "1", ".", "pages", "part"):
-                self.assertEqual(row_refused(self, with_word(at, 1, word)), (at, 1), word)
+                self.assertEqual(refused(self, with_word(ROWS, at, 1, word)), (at, 1), word)
 
     def test_no_number(self):
         for word in NO_FIGURES:
-            self.assertEqual(row_refused(self, with_word(1, 2, word)), (1, 2), word)
-            self.assertEqual(row_refused(self, with_word(1, 3, word)), (1, 3), word)
+            self.assertEqual(refused(self, with_word(ROWS, 1, 2, word)), (1, 2), word)
+            self.assertEqual(refused(self, with_word(ROWS, 1, 3, word)), (1, 3), word)
             for at in range(2, 7):
-                self.assertEqual(row_refused(self, with_word(at, 3, word)), (at, 3), word)
+                self.assertEqual(refused(self, with_word(ROWS, at, 3, word)), (at, 3), word)
 
     def test_no_edge_and_no_way(self):
         for at in range(2, 7):
             for word in NO_EDGES:
-                self.assertEqual(row_refused(self, with_word(at, 2, word)), (at, 2), word)
+                self.assertEqual(refused(self, with_word(ROWS, at, 2, word)), (at, 2), word)
             for word in NO_WAYS:
-                self.assertEqual(row_refused(self, with_word(at, 4, word)), (at, 4), word)
+                self.assertEqual(refused(self, with_word(ROWS, at, 4, word)), (at, 4), word)
 
     def test_words_that_lack(self):
         for at, row in enumerate(ROWS, start=1):
             words = row.split(" ")
             for many in range(1, len(words)):
-                self.assertEqual(row_refused(self, with_row(at, " ".join(words[:many]))), (at, many + 1))
+                self.assertEqual(refused(self, with_row(ROWS, at, " ".join(words[:many]))), (at, many + 1))
 
     def test_words_that_are_too_many(self):
         for at, row in enumerate(ROWS, start=1):
             many = len(row.split(" "))
             for more in ("over", "1", "1 2 3", "fold", "sheet", "fold left 1 over"):
-                self.assertEqual(row_refused(self, with_row(at, row + " " + more)), (at, many + 1))
+                self.assertEqual(refused(self, with_row(ROWS, at, row + " " + more)), (at, many + 1))
 
     def test_the_first_word_counts(self):
-        self.assertEqual(row_refused(self, "sheets 9 0"), (1, 1))
-        self.assertEqual(row_refused(self, "sheet 9 0"), (1, 2))
-        self.assertEqual(row_refused(self, "sheet 0"), (1, 2))
-        self.assertEqual(row_refused(self, "sheet 3 0 1"), (1, 3))
-        self.assertEqual(row_refused(self, "sheet 1 2\nfold up 0 by"), (2, 2))
-        self.assertEqual(row_refused(self, "sheet 1 2\nfold up"), (2, 2))
-        self.assertEqual(row_refused(self, "sheet 1 2\nfold left 0 by"), (2, 3))
-        self.assertEqual(row_refused(self, "sheet 1 2\nfold left 1 by 3"), (2, 4))
+        self.assertEqual(refused(self, "sheets 9 0"), (1, 1))
+        self.assertEqual(refused(self, "sheet 9 0"), (1, 2))
+        self.assertEqual(refused(self, "sheet 0"), (1, 2))
+        self.assertEqual(refused(self, "sheet 3 0 1"), (1, 3))
+        self.assertEqual(refused(self, "sheet 1 2\nfold up 0 by"), (2, 2))
+        self.assertEqual(refused(self, "sheet 1 2\nfold up"), (2, 2))
+        self.assertEqual(refused(self, "sheet 1 2\nfold left 0 by"), (2, 3))
+        self.assertEqual(refused(self, "sheet 1 2\nfold left 1 by 3"), (2, 4))
 
     def test_the_first_row_counts(self):
         for at in range(1, 6):
@@ -155,10 +140,10 @@ class TestRefusedWords(unittest.TestCase):
                     rows[at - 1] = rows[at - 1] + " more"
                     rows[later - 1] = bad
                     many = len(ROWS[at - 1].split(" "))
-                    self.assertEqual(row_refused(self, "\n".join(rows)), (at, many + 1))
+                    self.assertEqual(refused(self, "\n".join(rows)), (at, many + 1))
 
     def test_each_row_of_many(self):
-        self.assertEqual(row_refused(self, "sheet 1 8" + "\nfold left 1 over" * 1000 + "\nfold left 1"), (1002, 4))
+        self.assertEqual(refused(self, "sheet 1 8" + "\nfold left 1 over" * 1000 + "\nfold left 1"), (1002, 4))
 
 
 class TestRefusedRows(unittest.TestCase):
@@ -166,32 +151,32 @@ class TestRefusedRows(unittest.TestCase):
         for at, row in enumerate(ROWS, start=1):
             for bad in ("", " ", "  ", " " + row, row + " ", row + "  ", row.replace(" ", "  ", 1),
                         "  ".join(row.split(" "))):
-                self.assertEqual(row_refused(self, with_row(at, bad)), (at, 0), repr(bad))
+                self.assertEqual(refused(self, with_row(ROWS, at, bad)), (at, 0), repr(bad))
 
     def test_two_blanks_between_any_words(self):
         for at, row in enumerate(ROWS, start=1):
             words = row.split(" ")
             for number in range(1, len(words)):
                 bad = " ".join(words[:number]) + "  " + " ".join(words[number:])
-                self.assertEqual(row_refused(self, with_row(at, bad)), (at, 0), repr(bad))
+                self.assertEqual(refused(self, with_row(ROWS, at, bad)), (at, 0), repr(bad))
 
     def test_word_0_is_ahead_of_the_words(self):
         for bad in (" x", "x ", "sheet  9 9", "sheet 9 9 ", "x  x x x x"):
-            self.assertEqual(row_refused(self, bad), (1, 0), repr(bad))
-            self.assertEqual(row_refused(self, "sheet 1 2\n" + bad), (2, 0), repr(bad))
+            self.assertEqual(refused(self, bad), (1, 0), repr(bad))
+            self.assertEqual(refused(self, "sheet 1 2\n" + bad), (2, 0), repr(bad))
 
     def test_a_row_ahead_of_it_is_ahead_of_word_0(self):
-        self.assertEqual(row_refused(self, "sheet 0 1\n fold left 1 over"), (1, 2))
-        self.assertEqual(row_refused(self, "sheet 1 3\nfold left 1\nfold  left 1 over"), (2, 4))
+        self.assertEqual(refused(self, "sheet 0 1\n fold left 1 over"), (1, 2))
+        self.assertEqual(refused(self, "sheet 1 3\nfold left 1\nfold  left 1 over"), (2, 4))
 
     def test_a_line_end_at_an_end(self):
-        self.assertEqual(row_refused(self, ""), (1, 0))
-        self.assertEqual(row_refused(self, "\n"), (1, 0))
-        self.assertEqual(row_refused(self, "\n" + TEXT), (1, 0))
-        self.assertEqual(row_refused(self, TEXT + "\n"), (7, 0))
-        self.assertEqual(row_refused(self, TEXT + "\n\n"), (7, 0))
-        self.assertEqual(row_refused(self, TEXT.replace("\n", "\n\n", 1)), (2, 0))
-        self.assertEqual(row_refused(self, "sheet 1 1\n"), (2, 0))
+        self.assertEqual(refused(self, ""), (1, 0))
+        self.assertEqual(refused(self, "\n"), (1, 0))
+        self.assertEqual(refused(self, "\n" + TEXT), (1, 0))
+        self.assertEqual(refused(self, TEXT + "\n"), (7, 0))
+        self.assertEqual(refused(self, TEXT + "\n\n"), (7, 0))
+        self.assertEqual(refused(self, TEXT.replace("\n", "\n\n", 1)), (2, 0))
+        self.assertEqual(refused(self, "sheet 1 1\n"), (2, 0))
 
 
 class TestRefusedSchemes(unittest.TestCase):
@@ -203,10 +188,10 @@ class TestRefusedSchemes(unittest.TestCase):
                     self.assertEqual(scheme_refused(self, f"sheet {rows} {columns}\nfold left 8 over"), 0)
 
     def test_folds_that_cant_be(self):
-        self.assertEqual(scheme_refused(self, with_word(2, 3, "3")), 1)
-        self.assertEqual(scheme_refused(self, with_word(3, 3, "2")), 2)
-        self.assertEqual(scheme_refused(self, with_word(4, 3, "8")), 3)
-        self.assertEqual(scheme_refused(self, with_word(6, 2, "top")), 5)
+        self.assertEqual(scheme_refused(self, with_word(ROWS, 2, 3, "3")), 1)
+        self.assertEqual(scheme_refused(self, with_word(ROWS, 3, 3, "2")), 2)
+        self.assertEqual(scheme_refused(self, with_word(ROWS, 4, 3, "8")), 3)
+        self.assertEqual(scheme_refused(self, with_word(ROWS, 6, 2, "top")), 5)
         self.assertEqual(scheme_refused(self, "sheet 1 1\nfold left 1 over"), 1)
         self.assertEqual(scheme_refused(self, TEXT + "\nfold left 1 over"), 6)
 
@@ -216,10 +201,10 @@ class TestRefusedSchemes(unittest.TestCase):
         self.assertEqual(scheme_refused(self, "sheet 8 4"), 1)
 
     def test_rows_are_ahead_of_the_scheme(self):
-        self.assertEqual(row_refused(self, "sheet 8 8\nfold left 1"), (2, 4))
-        self.assertEqual(row_refused(self, "sheet 8 8\n"), (2, 0))
-        self.assertEqual(row_refused(self, "sheet 1 2\nfold left 8 over\nfold up 1 over"), (3, 2))
-        self.assertEqual(row_refused(self, "sheet 1 1\nfold left 1 over\nfold left 1 over\nfold left 9 over"), (4, 3))
+        self.assertEqual(refused(self, "sheet 8 8\nfold left 1"), (2, 4))
+        self.assertEqual(refused(self, "sheet 8 8\n"), (2, 0))
+        self.assertEqual(refused(self, "sheet 1 2\nfold left 8 over\nfold up 1 over"), (3, 2))
+        self.assertEqual(refused(self, "sheet 1 1\nfold left 1 over\nfold left 1 over\nfold left 9 over"), (4, 3))
 
 
 if __name__ == "__main__":

@@ -11,11 +11,11 @@ BACK = [[(0, False), (3, False), (4, True)], [(2, True), (5, False), (1999, True
 TUMBLED = [[(1999, False), (5, True), (2, False)], [(4, False), (3, True), (0, False)]]
 # No faces of a sheet, whatever stands beside them.
 NO_FACES = (
-    None, True, False, 0, 1, "", "1", [], (), {}, set(), object(), len, [1, False], {1: False}, "1F", (1,), (1, False, 1),
-    (1, False, False), ((1, False),), [(1, False)], (None, False), (True, False), (False, False), ("1", False),
-    ("", False), ([1], False), ((1,), False), (b"1", False), (-1, False), (-1, True), (2001, False), (2001, True),
-    (10 ** 40, False), (-10 ** 40, False), (0, True), (1, None), (1, 0), (1, 1), (5, 1), (0, 0), (1, ""), (1, "True"),
-    (1, [False]), (1, ()), (1, object()), (False, 1), (True, True),
+    None, True, False, 0, 1, "", "1", [], (), {}, set(), object(), len, [1, False], {1: False}, "1F", (1,),
+    (1, False, 1), (1, False, False), ((1, False),), [(1, False)], (None, False), (True, False), (False, False),
+    ("1", False), ("", False), ([1], False), ((1,), False), (b"1", False), (-1, False), (-1, True), (2001, False),
+    (2001, True), (10 ** 40, False), (-10 ** 40, False), (0, True), (1, None), (1, 0), (1, 1), (5, 1), (0, 0),
+    (1, ""), (1, "True"), (1, [False]), (1, ()), (1, object()), (False, 1), (True, True),
 )
 NO_SIDES = (None, True, False, 0, 1, "", "side", (), {}, set(), object(), len, [], [[]], [[], []], [()], [None], [1],
             ["1"], [{}], [(1, False)], ((1, False),), [((1, False),)], ([(1, False)],), {0: [(1, False)]},

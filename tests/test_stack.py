@@ -5,7 +5,8 @@ import unittest
 from foldpress.errors import BadScheme, OutOfPlace
 from foldpress.scheme import Scheme
 from foldpress.stack import Stack, folded_stack
-from paper import EDGES, NO_NUMBERS, Paper, WAYS, change_deeply, first_folds, folded, many_schemes, some_folds
+from paper import (EDGES, NO_NUMBERS, NO_SIZES, WAYS, Paper, change_deeply, first_folds, folded, many_schemes,
+                   some_folds)
 
 NO_EDGES = ("", "Left", "left ", "lef", "over", "up", "front", None, True, 0, 1, ["left"], ("left",), b"left", {}, len)
 NO_WAYS = ("", "Over", "over ", "ove", "left", "behind", None, True, 0, 1, ["over"], ("over",), b"over", {}, len)
@@ -51,8 +52,7 @@ class TestFlat(unittest.TestCase):
             self.assertEqual([type(leaf)] + [type(part) for part in leaf], [tuple, int, int, bool, bool])
 
     def test_sizes_that_cant_be(self):
-        for rows, columns in ((0, 1), (1, 0), (9, 1), (1, 9), (6, 6), (8, 5), (5, 8), (-1, -1), (-2, 3), (1, 32),
-                              (10 ** 40, 1)):
+        for rows, columns in NO_SIZES:
             self.refused_at_0(rows, columns)
         for thing in NO_NUMBERS:
             self.refused_at_0(thing, 1)
