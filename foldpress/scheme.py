@@ -1,7 +1,7 @@
 """Schemes: the size of a sheet, and the folds that bring it down to one place."""
 
 from foldpress.errors import BadScheme
-from foldpress.words import is_among, is_whole
+from foldpress.words import is_among, is_whole, is_word_of
 
 LEVEL_EDGES = ("top", "bottom")
 EDGES = ("left", "right", "top", "bottom")
@@ -35,6 +35,24 @@ def is_size(rows, columns):
     return rows * columns <= MOST_CELLS
 
 
+def cells_of(scheme):
+    """How many cells the sheet of a scheme has."""
+    rows, columns, _ = scheme.told()
+    return rows * columns
+
+
+def copied_scheme(scheme):
+    """Another scheme alike."""
+    rows, columns, folds = scheme.told()
+    return Scheme(rows, columns, folds)
+
+
+def scheme_key(scheme):
+    """What is the same of like schemes alone, and can be the key of a dict."""
+    rows, columns, folds = scheme.told()
+    return (rows, columns, tuple(folds))
+
+
 def first_wrong_fold(rows, columns, folds):
     """The number of the first fold that can't be, one behind the last where folds lack, or None."""
     left = (rows, columns)
@@ -62,9 +80,4 @@ def _is_fold(fold):
     if not isinstance(fold, tuple) or len(fold) != 3:
         return False
     edge, many, way = fold
-    return _is_word_of(edge, EDGES) and is_whole(many) and many >= 1 and _is_word_of(way, WAYS)
-
-
-def _is_word_of(thing, words):
-    """Whether the thing is a text, and one of the words."""
-    return isinstance(thing, str) and thing in words
+    return is_word_of(edge, EDGES) and is_whole(many) and many >= 1 and is_word_of(way, WAYS)

@@ -11,9 +11,8 @@ def section_leaves(scheme):
 def page_places(scheme):
     """The places of a scheme's pages, in their order."""
     places = []
-    for row, column, is_swapped, is_turned in section_leaves(scheme):
-        sides = ("front", "back") if is_swapped == is_turned else ("back", "front")
-        places.extend([(row, column, side, is_turned) for side in sides])
+    for leaf in section_leaves(scheme):
+        places.extend(leaf_places(leaf))
     return places
 
 
@@ -28,6 +27,13 @@ def side_rows(scheme, side):
     rows, columns, _ = scheme.told()
     front, back = both_sides(scheme, list(range(1, 2 * rows * columns + 1)))
     return front if side == "front" else back
+
+
+def leaf_places(leaf):
+    """The places of the two pages of a leaf: of its upper and of its lower face."""
+    row, column, is_swapped, is_turned = leaf
+    sides = ("front", "back") if is_swapped == is_turned else ("back", "front")
+    return [(row, column, side, is_turned) for side in sides]
 
 
 def is_whole_pair(even, odd):

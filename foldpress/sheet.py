@@ -24,8 +24,18 @@ class Sheet:
 
 def tumbled_back(sheet):
     """The rows of the back as it is seen by turning the sheet about a level line."""
-    back = sheet.told()[1]
-    return [[_tumbled(face) for face in row[::-1]] for row in back[::-1]]
+    return tumbled_rows(sheet.told()[1])
+
+
+def tumbled_rows(rows):
+    """The rows of a side, standing from behind, each with its head the other way."""
+    return [[_tumbled(face) for face in row[::-1]] for row in rows[::-1]]
+
+
+def copied_sheet(sheet):
+    """Another sheet alike."""
+    front, back = sheet.told()
+    return Sheet(front, back)
 
 
 def sheet_size(sheet):

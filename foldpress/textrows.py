@@ -17,3 +17,13 @@ def words_at(row, at):
     if words is None:
         raise BadRow(at, 0)
     return words
+
+
+def words_among(words, at, choices):
+    """The words of the row with that number, each one of those that can stand at its place."""
+    for number, word in enumerate(words, start=1):
+        if number > len(choices) or word not in choices[number - 1]:
+            raise BadRow(at, number)
+    if len(words) < len(choices):
+        raise BadRow(at, len(words) + 1)
+    return words

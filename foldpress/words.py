@@ -19,6 +19,11 @@ def is_name(thing):
     return _has_signs(thing, MOST_LETTERS, "a", "z")
 
 
+def is_word_of(thing, words):
+    """Whether the thing is a text, and one of the words."""
+    return isinstance(thing, str) and thing in words
+
+
 def number_of(word):
     """The number of a word of one to four figures without a 0 ahead, or None."""
     if not _has_signs(word, MOST_FIGURES, "0", "9"):

@@ -6,11 +6,25 @@ from foldpress.errors import BadRow
 
 EDGES = ("left", "right", "top", "bottom")
 WAYS = ("over", "under")
+
+
+class Alike:
+    """Says of anything that it is the same."""
+
+    def __eq__(self, other):
+        return True
+
+    def __hash__(self):
+        return 1
+
+
 # No whole numbers; True stands here, for it is no 1.
 NO_NUMBERS = (None, True, False, "", "1", "2", [], [1], (), (1,), {}, set(), b"1", object(), len)
 NO_TEXTS = (None, True, False, 0, 1, [], ["sheet 1 1"], ("sheet 1 1",), {}, set(), b"sheet 1 1", b".", object(), len)
 NO_SIZES = ((0, 1), (1, 0), (0, 0), (-1, 1), (1, -1), (-2, -3), (9, 1), (1, 9), (8, 5), (5, 8), (6, 6), (8, 8), (7, 5),
             (1, 32), (32, 1), (10 ** 40, 1), (1, 10 ** 40))
+NO_EDGES = ("", "Left", "left ", "lef", "over", "up", "front", None, True, 0, 1, ["left"], ("left",), b"left", {}, len,
+            Alike())
 # Sizes with few enough schemes that a test can go through all of them.
 SMALL_SIZES = ((1, 1), (1, 2), (2, 1), (1, 3), (3, 1), (1, 4), (4, 1), (2, 2), (2, 3), (3, 2))
 GREAT_SIZES = ((8, 4), (4, 8), (6, 5), (5, 6), (8, 1), (1, 8), (7, 4), (3, 7), (2, 4), (4, 4))
@@ -74,6 +88,22 @@ def pages_read(rows, columns, folds, front, back):
         for page, is_turned in faces:
             read.append((page, page != 0 and is_turned != (leaf["turns"] % 2 == 1)))
     return read
+
+
+def seen_spreads(front, back):
+    """The pairs of pages that are seen side by side, the even one at the left, when their heads are up."""
+    found = []
+    for row in front + back:
+        for one, other in zip(row, row[1:]):
+            left, right = (other, one) if one[1] else (one, other)
+            if one[1] == other[1] and left[0] % 2 == 0 and right[0] == left[0] + 1:
+                found.append((left[0], right[0]))
+    return sorted(found)
+
+
+def told_parts(parts):
+    """The parts of a book with what their schemes tell, to compare them."""
+    return [(scheme.told(), how) for scheme, how in parts]
 
 
 def first_folds(rows, columns):

@@ -13,7 +13,7 @@ BUILTINS = set("""len range enumerate zip min max sum abs sorted reversed int st
     ord repr any all divmod ValueError TypeError KeyError""".split())
 METHODS = set("""append clear copy count endswith extend find get index insert isalnum isalpha isdigit islower isspace
     isupper items join keys ljust lower lstrip partition pop remove replace reverse rfind rjust rpartition rsplit rstrip
-    setdefault split splitlines startswith strip update upper values zfill""".split())
+    setdefault split splitlines startswith strip update upper values zfill bit_length""".split())
 BARRED = set("""type typing enum Enum Generic Protocol ABC namedtuple NamedTuple register mro elements open input law
     version_info os gc sys id vars dir exit help""".split())
 

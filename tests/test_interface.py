@@ -18,12 +18,21 @@ FUNCTIONS = {
     "allschemes": {"count_schemes": ["rows", "columns"], "all_schemes": ["rows", "columns"]},
     "readback": {"schemes_for": ["sheet"], "hindering": ["sheet"], "scheme_kinds": ["rows", "columns"],
                  "same_sheet": ["one", "other"]},
+    "cutting": {"border_edges": ["scheme"], "closed_edges": ["scheme"], "groups_after": ["scheme", "cuts"],
+                "loose_leaves": ["scheme", "cuts"], "bifolia": ["scheme"], "can_be_sewn": ["scheme"]},
+    "book": {"sheets_of": ["book"], "page_at": ["book", "page"], "leaf_of": ["book", "page"],
+             "creep_of": ["book", "thickness"], "spreads_whole": ["book"]},
+    "plan": {"plan_for": ["press", "pages"], "book_for": ["press", "pages"], "gaps_shown": ["press", "pages"]},
+    "plates": {"doubled": ["sheet"], "tumbled": ["sheet"], "turned_over": ["sheet"], "tumbled_over": ["sheet"],
+               "halves_of": ["sheet", "way"]},
 }
 METHODS = {
     "scheme": {"Scheme": {"__init__": ["rows", "columns", "folds"], "told": []}},
     "stack": {"Stack": {"__init__": ["rows", "columns"], "size": [], "leaves_at": ["row", "column"], "all_leaves": [],
                         "fold_part": ["edge", "many", "way"], "unfold": [], "copied": []}},
     "sheet": {"Sheet": {"__init__": ["front", "back"], "told": []}},
+    "book": {"Book": {"__init__": ["pages", "parts"], "told": [], "many_places": [], "nest_parts": [],
+                      "part_pages": ["part"]}},
 }
 
 

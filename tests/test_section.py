@@ -4,7 +4,7 @@ import unittest
 
 from foldpress.scheme import Scheme
 from foldpress.section import page_places, section_leaves, side_rows, whole_spreads
-from paper import change_deeply, folded, many_schemes, pages_read
+from paper import change_deeply, folded, many_schemes, pages_read, seen_spreads
 
 QUARTO = Scheme(2, 2, [("top", 1, "under"), ("left", 1, "over")])
 LONG = Scheme(1, 4, [("left", 2, "over"), ("left", 1, "over")])
@@ -47,17 +47,6 @@ WORKED_OUT = (
      [[(4, False), (13, False), (16, False), (1, False)], [(5, True), (12, True), (9, True), (8, True)]],
      [[(2, False), (15, False), (14, False), (3, False)], [(7, True), (10, True), (11, True), (6, True)]], [(8, 9)]),
 )
-
-
-def seen_spreads(front, back):
-    """The pairs of pages that are seen side by side, the even one at the left, when their heads are up."""
-    found = []
-    for row in front + back:
-        for one, other in zip(row, row[1:]):
-            left, right = (other, one) if one[1] else (one, other)
-            if one[1] == other[1] and left[0] % 2 == 0 and right[0] == left[0] + 1:
-                found.append((left[0], right[0]))
-    return sorted(found)
 
 
 class TestWorkedOut(unittest.TestCase):

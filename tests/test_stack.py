@@ -5,11 +5,10 @@ import unittest
 from foldpress.errors import BadScheme, OutOfPlace
 from foldpress.scheme import Scheme
 from foldpress.stack import Stack, folded_stack
-from paper import (EDGES, NO_NUMBERS, NO_SIZES, WAYS, Paper, change_deeply, first_folds, folded, many_schemes,
-                   some_folds)
+from paper import (EDGES, NO_EDGES, NO_NUMBERS, NO_SIZES, WAYS, Alike, Paper, change_deeply, first_folds, folded,
+                   many_schemes, some_folds)
 
-NO_EDGES = ("", "Left", "left ", "lef", "over", "up", "front", None, True, 0, 1, ["left"], ("left",), b"left", {}, len)
-NO_WAYS = ("", "Over", "over ", "ove", "left", "behind", None, True, 0, 1, ["over"], ("over",), b"over", {}, len)
+NO_WAYS = ("", "Over", "over ", "ove", "left", "behind", None, True, 0, 1, ["over"], ("over",), b"over", {}, len, Alike())
 
 
 def flat(rows, columns):
