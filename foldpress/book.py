@@ -98,7 +98,7 @@ def creep_of(book, thickness):
         raise BadBook("no sheet is so thick")
     top, bottom = thickness
     pages, parts = book.told()
-    sizes = [sum([cells_of(parts[part - 1][0]) for part in nest]) for nest in book.nest_parts()]
+    sizes = [sum([cells_of(parts[number - 1][0]) for number in numbers]) for numbers in book.nest_parts()]
     creeps = []
     for page in range(1, pages + 1):
         nest, leaf = leaf_of(book, page)

@@ -25,6 +25,7 @@ FUNCTIONS = {
     "plan": {"plan_for": ["press", "pages"], "book_for": ["press", "pages"], "gaps_shown": ["press", "pages"]},
     "plates": {"doubled": ["sheet"], "tumbled": ["sheet"], "turned_over": ["sheet"], "tumbled_over": ["sheet"],
                "halves_of": ["sheet", "way"]},
+    "booktext": {"book_text": ["names", "book"], "read_book": ["text"]},
 }
 METHODS = {
     "scheme": {"Scheme": {"__init__": ["rows", "columns", "folds"], "told": []}},
@@ -33,6 +34,13 @@ METHODS = {
     "sheet": {"Sheet": {"__init__": ["front", "back"], "told": []}},
     "book": {"Book": {"__init__": ["pages", "parts"], "told": [], "many_places": [], "nest_parts": [],
                       "part_pages": ["part"]}},
+    "machine": {"Machine": {"__init__": ["scheme", "sheet"], "step": [], "step_back": [], "steps_left": [],
+                            "seen_above": [], "seen_beneath": [], "thickness_at": ["row", "column"],
+                            "open_at": ["number"], "all_pages": []}},
+    "hand": {"Hand": {"__init__": ["book"], "book": [], "set_pages": ["pages"],
+                      "change_part": ["part", "scheme", "how"], "put_part": ["part", "scheme", "how"],
+                      "take_part": ["part"], "undo": []}},
+    "desk": {"Desk": {"__init__": ["text"], "say": ["line"]}},
 }
 
 
