@@ -105,7 +105,8 @@ class TestReadBack(unittest.TestCase):
                          ([("a", ONE.told())], 1, [(ONE.told(), "behind")]))
 
     def test_names(self):
-        for name in ("a", "z", "abcdefgh", "scheme", "sheet", "fold", "pages", "part", "behind", "within", "left", "over"):
+        for name in ("a", "z", "abcdefgh", "scheme", "sheet", "fold", "pages", "part", "behind", "within", "left",
+                     "over"):
             text = f"scheme {name}\nsheet 1 1\npages 2\npart {name} behind"
             self.assertEqual(told_of(text)[0], [(name, ONE.told())])
             self.assertEqual(book_text(*read_book(text)), text)
@@ -133,7 +134,8 @@ class TestReadBack(unittest.TestCase):
 
     def test_a_thousand_parts(self):
         for pages, rows in ((2000, ["part a behind"] * 1000), (2000, ["part b behind"] + ["part b within"] * 999)):
-            text = "\n".join(["scheme a", "sheet 1 1", "scheme b", "sheet 1 2", "fold left 1 over", f"pages {pages}"] + rows)
+            text = "\n".join(["scheme a", "sheet 1 1", "scheme b", "sheet 1 2", "fold left 1 over",
+                              f"pages {pages}"] + rows)
             self.assertLess(len(text), 20000)
             names, book = read_book(text)
             self.assertEqual(len(book.told()[1]), 1000)
@@ -273,7 +275,8 @@ class TestRefusedRows(unittest.TestCase):
     def test_a_row_behind_the_thousandth_part(self):
         text = "\n".join(["scheme a", "sheet 1 1", "pages 2000"] + ["part a behind"] * 1000)
         self.assertEqual(len(read_book(text)[1].told()[1]), 1000)
-        for row in ("part a behind", "part a within", "part", "x", "", " ", "part b behind", " part a behind", "scheme b"):
+        for row in ("part a behind", "part a within", "part", "x", "", " ", "part b behind", " part a behind",
+                    "scheme b"):
             self.assertEqual(refused(self, text + "\n" + row), (1004, 0), repr(row))
             self.assertEqual(refused(self, text + "\n" + row + "\n" + row), (1004, 0), repr(row))
         # The thousandth one itself is a row like others.
@@ -323,14 +326,12 @@ class TestRefusedBehindThat(unittest.TestCase):
 
     def test_no_books(self):
         for at, row in ((10, "pages 15"), (10, "pages 2000"), (10, "pages 12"), (10, "pages 1"),
-                        (11, "part quarto within"), (12, "part a within"), (13, "part folio within"),
-                        (13, "part a within"), (11, "part a behind")):
-            if (at, row) == (13, "part folio within"):
-                # It is a book: its places come to 16, and its one nest has a page.
-                self.assertEqual(read_book(with_row(ROWS, at, row))[1].many_places(), 16)
-                continue
+                        (11, "part quarto within"), (12, "part a within"), (13, "part a within"),
+                        (11, "part a behind")):
             with self.assertRaises(BadBook, msg=row):
                 read_book(with_row(ROWS, at, row))
+        # This one is a book: its one nest has 16 places.
+        self.assertEqual(read_book(with_row(ROWS, 13, "part folio within"))[1].many_places(), 16)
 
 
 if __name__ == "__main__":

@@ -113,7 +113,8 @@ class TestBorders(unittest.TestCase):
             scheme = Scheme(rows, columns, folds)
             edges = edges_by_points(rows, columns, folds)
             told = border_edges(scheme)
-            self.assertEqual(told, [(one, other, edges[(one, other)]) for one, other in borders_in_order(rows, columns)])
+            self.assertEqual(told, [(one, other, edges[(one, other)])
+                                    for one, other in borders_in_order(rows, columns)])
             self.assertEqual(told, sorted(told))
             self.assertEqual(closed_edges(scheme), [edge for edge in EDGES if edge in edges.values()])
 

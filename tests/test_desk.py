@@ -43,21 +43,24 @@ ASKED = (
     ("sewn quarto", "yes"), ("sewn a", "no"), ("sewn folio", "yes"),
     ("closed quarto", "left top"), ("closed a", "none"), ("closed folio", "left"),
     ("cut quarto", "1"), ("cut quarto left", "2"), ("cut quarto top", "2"), ("cut quarto left top", "4"),
-    ("cut quarto top left top", "4"), ("cut quarto right bottom", "1"), ("cut a", "1"), ("cut a left right top bottom", "1"),
+    ("cut quarto top left top", "4"), ("cut quarto right bottom", "1"), ("cut a", "1"),
+    ("cut a left right top bottom", "1"),
     ("cut folio left left left left left left", "2"),
 )
 REFUSED = (
     "page 0", "page 14", "page 9999", "sheet 0", "sheet 4", "sheet 9999", "creep 0", "creep 14", "creep 9999", "plan 0",
     "plan 2001", "plan 9999", "cut quarto x", "cut quarto Left", "cut a left over", "cut quarto left top lef",
-    "cut folio folio", "cut folio 1", "cut folio within", "set 0", "set 12", "set 15", "set 2000", "set 2001", "set 9999",
+    "cut folio folio", "cut folio 1", "cut folio within", "set 0", "set 12", "set 15", "set 2000", "set 2001",
+    "set 9999",
     "change 0 folio behind", "change 4 folio behind", "change 9999 a within", "change 1 folio within",
     "change 2 a within", "change 1 a behind", "change 2 quarto within", "put 0 folio behind", "put 5 folio behind",
-    "put 4 folio behind", "put 4 a within", "put 1 folio within", "put 1 a behind", "take 0", "take 4", "take 1", "take 2",
-    "take 3", "undo",
+    "put 4 folio behind", "put 4 a within", "put 1 folio within", "put 1 a behind", "take 0", "take 4", "take 1",
+    "take 2", "take 3", "undo",
 )
 NO_LINES = (
     # Other words.
-    "", "x", "Pages", "page", "hello there", "pagess 1", "PAGE 1", "sew quarto", "none", "scheme quarto", "part a behind",
+    "", "x", "Pages", "page", "hello there", "pagess 1", "PAGE 1", "sew quarto", "none", "scheme quarto",
+    "part a behind",
     "1", "13", ".", "'", "redo", "quarto", "sheets 1", "takes 1", "wholes", "refused", "undo undo undo",
     # Other counts of them.
     "pages 1", "parts 1", "parts x", "page 1 2", "sheet", "sheet 1 2", "whole 1", "creep", "creep 1 2", "plan",
@@ -74,14 +77,16 @@ NO_LINES = (
     # No numbers.
     "page x", "page 01", "page 00", "page 0001", "page 10000", "page -1", "page +1", "page 1.", "page 1a", "page 12345",
     "page one", "sheet 01", "sheet x", "creep 00", "creep x", "plan 02000", "plan x", "plan 20000", "set 01", "set x",
-    "set 13.", "set -13", "change 01 folio behind", "change x folio behind", "put 00 folio behind", "put x folio behind",
+    "set 13.", "set -13", "change 01 folio behind", "change x folio behind", "put 00 folio behind",
+    "put x folio behind",
     "take 01", "take x", "take 10000", "take -1", "page 1'", "page 1,",
     # Blanks.
     " ", "  ", " pages", "pages ", "page  1", "page 1 ", " page 1", "cut quarto ", "cut  quarto", "cut quarto  left",
     "cut quarto left ", "undo ", " undo", "set 14 ", "set  14", "change 1  folio behind",
     # Line feeds.
     "\n", "pages\n", "\npages", "page 1\n", "page\n1", "page \n1", "cut quarto left\n", "cut quarto\nleft",
-    "cut quarto lef\nt", "cut quarto \n", "cut quarto left\ntop", "pages\nparts", "undo\n", "set 14\n", "set\n14", "sewn a\n",
+    "cut quarto lef\nt", "cut quarto \n", "cut quarto left\ntop", "pages\nparts", "undo\n", "set 14\n", "set\n14",
+    "sewn a\n",
     "take 3\n", "change 1 folio behind\n", "cut quarto x\n",
 )
 
@@ -100,8 +105,9 @@ class TestAsked(unittest.TestCase):
 
     def test_none(self):
         desk = Desk("scheme a\nsheet 1 1\npages 2\npart a behind")
-        for line, answer in (("whole", "none"), ("closed a", "none"), ("set 2", "none"), ("set 1", "1"), ("whole", "none"),
-                             ("change 1 a behind", "none"), ("undo", "none"), ("plan 7", "4"), ("creep 1", "0/1"),
+        for line, answer in (("whole", "none"), ("closed a", "none"), ("set 2", "none"), ("set 1", "1"),
+                             ("whole", "none"), ("change 1 a behind", "none"), ("undo", "none"), ("plan 7", "4"),
+                             ("creep 1", "0/1"),
                              ("sheet 1", "1 / back / ."), ("sewn a", "no")):
             self.assertEqual(desk.say(line), answer, line)
 
@@ -118,7 +124,8 @@ class TestAsked(unittest.TestCase):
             self.assertEqual(desk.say(line), answer, line)
 
     def test_like_schemes_by_several_names(self):
-        desk = Desk("scheme b\nsheet 1 1\nscheme a\nsheet 1 1\nscheme c\nsheet 1 2\nfold left 1 over\npages 1\npart a behind")
+        desk = Desk("scheme b\nsheet 1 1\nscheme a\nsheet 1 1\nscheme c\nsheet 1 2\nfold left 1 over\n"
+                    "pages 1\npart a behind")
         for line, answer in (("plan 6", "1 0 1"), ("plan 2", "1 0 0"), ("change 1 b behind", "none"),
                              ("change 1 c behind", "1"), ("plan 2000", "0 0 500")):
             self.assertEqual(desk.say(line), answer, line)
@@ -140,8 +147,9 @@ class TestDeeds(unittest.TestCase):
                 ("set 14", "3"), ("pages", "14"), ("sheet 3", "13 / back / 14"), ("set 14", "none"), ("set 13", "3"),
                 ("change 2 folio behind", "1 2"), ("whole", "4-5 10-11"), ("creep 5", "1/10"),
                 ("page 9", "part 2 row 1 column 1 back head"), ("undo", "1 2"), ("whole", "6-7"),
-                ("change 3 folio behind", "3"), ("put 3 a behind", "refused"), ("set 15", "3"), ("put 3 a behind", "3 4"),
-                ("parts", "4"), ("sheet 4", ". . / back / . 15"), ("take 3", "3"), ("parts", "3"), ("undo", "3 4"),
+                ("change 3 folio behind", "3"), ("put 3 a behind", "refused"), ("set 15", "3"),
+                ("put 3 a behind", "3 4"), ("parts", "4"), ("sheet 4", ". . / back / . 15"), ("take 3", "3"),
+                ("parts", "3"), ("undo", "3 4"),
                 ("undo", "3"), ("undo", "3"), ("undo", "3"), ("pages", "13"), ("parts", "3"),
                 ("undo", "3"), ("pages", "14"), ("undo", "none"), ("undo", "3"), ("pages", "13"),
                 ("undo", "refused"), ("undo", "refused")):
@@ -150,8 +158,9 @@ class TestDeeds(unittest.TestCase):
 
     def test_behind_all(self):
         desk = Desk("scheme folio\nsheet 1 2\nfold left 1 over\npages 2\npart folio behind")
-        for line, answer in (("put 2 folio within", "2"), ("put 4 folio within", "refused"), ("put 3 folio within", "3"),
-                             ("parts", "3"), ("take 2", "none"), ("undo", "2"), ("set 12", "1 2 3"), ("undo", "1 2 3"),
+        for line, answer in (("put 2 folio within", "2"), ("put 4 folio within", "refused"),
+                             ("put 3 folio within", "3"), ("parts", "3"), ("take 2", "none"), ("undo", "2"),
+                             ("set 12", "1 2 3"), ("undo", "1 2 3"),
                              ("undo", "none"), ("undo", "none"), ("undo", "refused"), ("parts", "1")):
             self.assertEqual(desk.say(line), answer, line)
 

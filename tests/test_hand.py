@@ -21,8 +21,8 @@ RIGHT_FIRST = Scheme(1, 3, [("right", 1, "under"), ("left", 1, "over")])
 GREAT = Scheme(4, 8, [("left", 4, "over"), ("top", 2, "under"), ("bottom", 1, "over"), ("left", 2, "over"),
                       ("left", 1, "over")])
 NO_PLACES = NO_NUMBERS + (0, -1, -2, 10 ** 40, -10 ** 40, 1.0, FOLIO, Alike())
-NO_SCHEMES = (None, True, 0, 1, "", "folio", [], (), FOLIO.told(), (FOLIO, "behind"), {}, {1}, b"", Scheme, object(), len,
-              Alike())
+NO_SCHEMES = (None, True, 0, 1, "", "folio", [], (), FOLIO.told(), (FOLIO, "behind"), {}, {1}, b"", Scheme, object(),
+              len, Alike())
 NO_HOWS = ("", "Behind", "behind ", "with", "over", None, True, 0, 1, [], ["behind"], ("behind",), {}, b"behind", FOLIO,
            len, Alike())
 

@@ -230,7 +230,8 @@ class TestRefused(unittest.TestCase):
                     machine.open_at(thing)
 
     def test_no_places(self):
-        machine = Machine(Scheme(2, 3, [("top", 1, "over"), ("left", 1, "over"), ("left", 1, "over")]), some_sheet(2, 3))
+        scheme = Scheme(2, 3, [("top", 1, "over"), ("left", 1, "over"), ("left", 1, "over")])
+        machine = Machine(scheme, some_sheet(2, 3))
         for rows, columns in ((2, 3), (1, 3), (1, 2), (1, 1)):
             self.assertGreater(machine.thickness_at(rows, columns), 0)
             for thing in NO_NUMBERS + (0, -1, 9, 10 ** 40, -10 ** 40, 1.0):

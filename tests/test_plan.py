@@ -63,7 +63,8 @@ class TestWorkedOut(unittest.TestCase):
                 ([TRIPLE, FOLIO, ONE], 8, [0, 2, 0], []), ([FOLIO, ONE, TRIPLE], 8, [2, 0, 0], []),
                 ([ONE, TRIPLE, FOLIO], 8, [1, 1, 0], []), ([TRIPLE, ONE, FOLIO], 7, [1, 1, 0], [(7, 6)]),
                 # Like schemes, and unlike ones of as many cells: those that stand earlier.
-                ([FOLIO, FOLIO], 8, [2, 0], []), ([FOLIO, TALL, FOLIO], 9, [3, 0, 0], [(9, None), (10, None), (11, None)]),
+                ([FOLIO, FOLIO], 8, [2, 0], []),
+                ([FOLIO, TALL, FOLIO], 9, [3, 0, 0], [(9, None), (10, None), (11, None)]),
                 ([QUARTO, LONG, FOLIO, TALL], 20, [2, 0, 1, 0], []),
                 ([FOLIO] * 8, 2000, [500] + [0] * 7, []), ([ONE] * 8, 1999, [1000] + [0] * 7, [(1999, None)])):
             self.assertEqual(plan_for(press, pages), plan)
@@ -90,7 +91,8 @@ class TestWorkedOut(unittest.TestCase):
 
 class TestAllLists(unittest.TestCase):
     def test_each_plan_is_the_best_of_all_lists(self):
-        for cells, most in (((1,), 40), ((2,), 40), ((3, 2), 60), ((2, 3), 60), ((4, 4), 40), ((1, 1), 14), ((5, 3), 60),
+        for cells, most in (((1,), 40), ((2,), 40), ((3, 2), 60), ((2, 3), 60), ((4, 4), 40), ((1, 1), 14),
+                            ((5, 3), 60),
                             ((2, 2, 2), 24), ((1, 2, 3), 20), ((3, 1, 2), 20), ((6, 4, 3), 60), ((4, 6, 6), 60),
                             ((5, 7, 3, 4), 40), ((8, 5, 5, 2), 40), ((3, 5, 3, 5), 30), ((9, 6, 4, 5), 50),
                             ((7, 7, 6, 5, 8), 36), ((32, 15, 12), 300), ((16, 9, 24), 200)):
@@ -118,7 +120,8 @@ class TestGreatPresses(unittest.TestCase):
         picker = random.Random(80)
         choices = list(SIZES)
         presses = [[1] * 8, [2] * 8, [32] * 8, [1, 2, 3, 4, 5, 6, 7, 8], [32, 30, 24, 16, 15, 12, 9, 8],
-                   [1, 32, 1, 32, 1, 32, 1, 32], [3, 2, 3, 2, 3, 2, 3, 2], [1, 2, 1, 2, 1, 2, 1, 2], [7, 5, 7, 5, 7, 5, 7, 5]]
+                   [1, 32, 1, 32, 1, 32, 1, 32], [3, 2, 3, 2, 3, 2, 3, 2], [1, 2, 1, 2, 1, 2, 1, 2],
+                   [7, 5, 7, 5, 7, 5, 7, 5]]
         presses += [[picker.choice(choices) for _ in range(8)] for _ in range(20)]
         for cells in presses:
             press = press_of(*cells)

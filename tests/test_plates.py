@@ -61,7 +61,8 @@ class TestWorkedOut(unittest.TestCase):
 
     def test_halves(self):
         sheet = Sheet([[(1, False), (2, True), (0, False), (4, False)], [(5, False), (6, False), (7, True), (8, True)]],
-                      [[(11, False), (12, True), (13, False), (0, False)], [(15, True), (16, True), (17, True), (18, True)]])
+                      [[(11, False), (12, True), (13, False), (0, False)],
+                       [(15, True), (16, True), (17, True), (18, True)]])
         left, right = halves_of(sheet, "upright")
         self.assertEqual(left.told(), ([[(1, False), (2, True)], [(5, False), (6, False)]],
                                        [[(13, False), (0, False)], [(17, True), (18, True)]]))

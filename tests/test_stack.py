@@ -8,7 +8,8 @@ from foldpress.stack import Stack, folded_stack
 from paper import (EDGES, NO_EDGES, NO_NUMBERS, NO_SIZES, WAYS, Alike, Paper, change_deeply, first_folds, folded,
                    many_schemes, some_folds)
 
-NO_WAYS = ("", "Over", "over ", "ove", "left", "behind", None, True, 0, 1, ["over"], ("over",), b"over", {}, len, Alike())
+NO_WAYS = ("", "Over", "over ", "ove", "left", "behind", None, True, 0, 1, ["over"], ("over",), b"over", {}, len,
+           Alike())
 
 
 def flat(rows, columns):

@@ -39,8 +39,8 @@ sheet 1 1
 TEXTS = (
     SCHEMES + "pages 1\npart card behind",
     SCHEMES + "pages 31\npart octavo behind\npart octavo behind",
-    SCHEMES + "pages 55\npart octavo behind\npart quarto within\npart folio within\npart letter behind\npart card behind\n"
-    "part octavo behind\npart folio within",
+    SCHEMES + "pages 55\npart octavo behind\npart quarto within\npart folio within\npart letter behind\n"
+    "part card behind\npart octavo behind\npart folio within",
     SCHEMES + "pages 9\npart folio behind\npart octavo within\npart quarto within\npart folio within",
     SCHEMES + "pages 150\n" + "\n".join(["part folio behind"] + ["part folio within"] * 39),
     SCHEMES + "pages 600\n" + "\n".join(["part folio behind"] * 150),
